@@ -777,7 +777,6 @@ func TestMatrixArgumentsStayAndResultsAreNew(t *testing.T) {
 
 func checkMemory(t *testing.T, a impl.Matrix, b impl.Matrix, v []int64) {
 	t.Helper()
-	fullA, fullB, fullV := fullMatrix(a), fullMatrix(b), fullVector(v)
 	for name, call := range map[string]func() (impl.Matrix, int64){
 		"IdentityMatrix":  func() (impl.Matrix, int64) { return impl.IdentityMatrix(a.Prime, a.Columns) },
 		"MatrixProduct":   func() (impl.Matrix, int64) { return impl.MatrixProduct(a, b) },
@@ -795,19 +794,26 @@ func checkMemory(t *testing.T, a impl.Matrix, b impl.Matrix, v []int64) {
 			return matrix(0, 0, x), code
 		},
 	} {
-		first, firstCode := call()
-		copied := matrix(first.Prime, first.Columns)
-		for _, row := range first.Rows {
-			copied.Rows = append(copied.Rows, slices.Clone(row))
-		}
-		if !spoil(first) {
-			t.Fatalf("%s of %v, %v, %v: two rows of the result share memory", name, a, b, v)
-		}
-		if !sameMatrix(fullMatrix(a), fullA) || !sameMatrix(fullMatrix(b), fullB) || !slices.Equal(fullVector(v), fullV) {
-			t.Fatalf("%s: the arguments became %v, %v, %v", name, fullMatrix(a), fullMatrix(b), fullVector(v))
-		}
-		if second, code := call(); !sameMatrix(second, copied) || code != firstCode {
-			t.Fatalf("%s of %v, %v, %v = %v, %d, and then %v, %d", name, a, b, v, copied, firstCode, second, code)
-		}
+		checkCallMemory(t, name, call, a, b, v)
+	}
+}
+
+// checkCallMemory calls twice, with the first result spoilt in between, and looks at the arguments behind their ends too.
+func checkCallMemory(t *testing.T, name string, call func() (impl.Matrix, int64), a impl.Matrix, b impl.Matrix, v []int64) {
+	t.Helper()
+	fullA, fullB, fullV := fullMatrix(a), fullMatrix(b), fullVector(v)
+	first, firstCode := call()
+	copied := matrix(first.Prime, first.Columns)
+	for _, row := range first.Rows {
+		copied.Rows = append(copied.Rows, slices.Clone(row))
+	}
+	if !spoil(first) {
+		t.Fatalf("%s of %v, %v, %v: two rows of the result share memory", name, a, b, v)
+	}
+	if !sameMatrix(fullMatrix(a), fullA) || !sameMatrix(fullMatrix(b), fullB) || !slices.Equal(fullVector(v), fullV) {
+		t.Fatalf("%s: the arguments became %v, %v, %v", name, fullMatrix(a), fullMatrix(b), fullVector(v))
+	}
+	if second, code := call(); !sameMatrix(second, copied) || code != firstCode {
+		t.Fatalf("%s of %v, %v, %v = %v, %d, and then %v, %d", name, a, b, v, copied, firstCode, second, code)
 	}
 }
