@@ -95,13 +95,13 @@ func determinantByExpansion(p int64, rows [][]int64) int64 {
 	return residueByAdding(sum, p)
 }
 
-// allVectors is in ascending lexicographic order.
-func allVectors(p int64, n int) [][]int64 {
+// vectorsBelow has the entries below the bounds, in ascending lexicographic order.
+func vectorsBelow(bounds []int64) [][]int64 {
 	list := [][]int64{{}}
-	for range n {
+	for _, bound := range bounds {
 		var longer [][]int64
 		for _, v := range list {
-			for entry := range p {
+			for entry := range bound {
 				longer = append(longer, append(slices.Clone(v), entry))
 			}
 		}
@@ -109,6 +109,8 @@ func allVectors(p int64, n int) [][]int64 {
 	}
 	return list
 }
+
+func allVectors(p int64, n int) [][]int64 { return vectorsBelow(slices.Repeat([]int64{p}, n)) }
 
 func rowsOfEntries(entries []int64, rows int, columns int) [][]int64 {
 	var list [][]int64
