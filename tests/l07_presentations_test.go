@@ -1075,8 +1075,9 @@ func consistencyPresentations(t *testing.T, s *scatter) []impl.Presentation {
 	return list
 }
 
-// The second part of the promise. A presentation is consistent exactly if its group, which has at
-// most this order, has the order that PresentationOrder returns.
+// The second part of the promise, for the group itself and for IsConsistent: a presentation is
+// consistent exactly if its group, which has at most this order, has the order that
+// PresentationOrder returns.
 func TestDirectProductIsConsistentExactlyIfBothFactorsAre(t *testing.T) {
 	list := consistencyPresentations(t, &scatter{76})
 	kinds := map[[2]bool]int{}
@@ -1097,6 +1098,9 @@ func TestDirectProductIsConsistentExactlyIfBothFactorsAre(t *testing.T) {
 			kinds[[2]bool{first, second}]++
 			if (actual == order) != (first && second) || actual != orders[i]*orders[j] {
 				t.Fatalf("the groups of %v, %v and their product have the orders %d, %d and %d", a, b, orders[i], orders[j], actual)
+			}
+			if impl.IsConsistent(a) != first || impl.IsConsistent(b) != second || impl.IsConsistent(p) != (first && second) {
+				t.Fatalf("IsConsistent is %v for %v, %v for %v, and %v for their product", impl.IsConsistent(a), a, impl.IsConsistent(b), b, impl.IsConsistent(p))
 			}
 		}
 	}
