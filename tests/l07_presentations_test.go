@@ -1255,28 +1255,37 @@ func presentationCalls(a impl.Presentation, b impl.Presentation, e []int64) map[
 	}
 }
 
-func checkPresentationMemory(t *testing.T, a impl.Presentation, b impl.Presentation, e []int64) {
+// checkCalls calls each function twice, and compares contents, which shows all arguments behind the ends of their lists too.
+func checkCalls(t *testing.T, calls map[string]func(owned map[any]bool) (string, bool), claimArguments func(owned map[any]bool), contents func() string) {
 	t.Helper()
-	a, b, e = roomyPresentation(a), roomyPresentation(b), roomy(e)
-	contents := func() string { return fullContent(a) + fullContent(b) + fmt.Sprint(fullVector(e)) }
 	before := contents()
-	for name, call := range presentationCalls(a, b, e) {
+	for name, call := range calls {
 		owned := map[any]bool{}
-		claimPresentation(owned, a)
-		claimPresentation(owned, b)
-		claim(owned, e)
+		claimArguments(owned)
 		first, isFree := call(owned)
 		if !isFree {
-			t.Fatalf("%s of %v, %v, %v: two lists share memory", name, a, b, e)
+			t.Fatalf("%s of %s: two lists share memory", name, before)
 		}
 		if after := contents(); after != before {
 			t.Fatalf("%s: the arguments %s became %s", name, before, after)
 		}
 		// The memory of the first result is still owned.
 		if second, isFree := call(owned); second != first || !isFree {
-			t.Fatalf("%s of %v, %v, %v is %s, and then %s", name, a, b, e, first, second)
+			t.Fatalf("%s of %s is %s, and then %s", name, before, first, second)
 		}
 	}
+}
+
+func checkPresentationMemory(t *testing.T, a impl.Presentation, b impl.Presentation, e []int64) {
+	t.Helper()
+	a, b, e = roomyPresentation(a), roomyPresentation(b), roomy(e)
+	claimArguments := func(owned map[any]bool) {
+		claimPresentation(owned, a)
+		claimPresentation(owned, b)
+		claim(owned, e)
+	}
+	contents := func() string { return fullContent(a) + fullContent(b) + fmt.Sprint(fullVector(e)) }
+	checkCalls(t, presentationCalls(a, b, e), claimArguments, contents)
 }
 
 func TestPresentationArgumentsStayAndResultsAreNew(t *testing.T) {

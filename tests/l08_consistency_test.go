@@ -594,22 +594,8 @@ func consistencyCalls(p impl.Presentation, i int64) map[string]func(owned map[an
 func checkConsistencyMemory(t *testing.T, p impl.Presentation, i int64) {
 	t.Helper()
 	p = roomyPresentation(p)
-	before := fullContent(p)
-	for name, call := range consistencyCalls(p, i) {
-		owned := map[any]bool{}
-		claimPresentation(owned, p)
-		first, isFree := call(owned)
-		if !isFree {
-			t.Fatalf("%s of %v, %d: two lists share memory", name, p, i)
-		}
-		if after := fullContent(p); after != before {
-			t.Fatalf("%s: the argument %s became %s", name, before, after)
-		}
-		// The memory of the first result is still owned.
-		if second, isFree := call(owned); second != first || !isFree {
-			t.Fatalf("%s of %v, %d is %s, and then %s", name, p, i, first, second)
-		}
-	}
+	claimArguments := func(owned map[any]bool) { claimPresentation(owned, p) }
+	checkCalls(t, consistencyCalls(p, i), claimArguments, func() string { return fullContent(p) })
 }
 
 func TestConsistencyArgumentsStayAndResultsAreNew(t *testing.T) {

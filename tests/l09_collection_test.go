@@ -838,26 +838,14 @@ func collectionCalls(p impl.Presentation, w []int64, a []int64, b []int64) map[s
 func checkCollectionMemory(t *testing.T, p impl.Presentation, w []int64, a []int64, b []int64) {
 	t.Helper()
 	p, w, a, b = roomyPresentation(p), roomy(w), roomy(a), roomy(b)
-	contents := func() string { return fullContent(p) + fmt.Sprint(fullVector(w), fullVector(a), fullVector(b)) }
-	before := contents()
-	for name, call := range collectionCalls(p, w, a, b) {
-		owned := map[any]bool{}
+	claimArguments := func(owned map[any]bool) {
 		claimPresentation(owned, p)
 		for _, list := range [][]int64{w, a, b} {
 			claim(owned, list)
 		}
-		first, isFree := call(owned)
-		if !isFree {
-			t.Fatalf("%s of %v, %v, %v, %v: two lists share memory", name, p, w, a, b)
-		}
-		if after := contents(); after != before {
-			t.Fatalf("%s: the arguments %s became %s", name, before, after)
-		}
-		// The memory of the first result is still owned.
-		if second, isFree := call(owned); second != first || !isFree {
-			t.Fatalf("%s of %v, %v, %v, %v is %s, and then %s", name, p, w, a, b, first, second)
-		}
 	}
+	contents := func() string { return fullContent(p) + fmt.Sprint(fullVector(w), fullVector(a), fullVector(b)) }
+	checkCalls(t, collectionCalls(p, w, a, b), claimArguments, contents)
 }
 
 func TestCollectionArgumentsStayAndResultsAreNew(t *testing.T) {
